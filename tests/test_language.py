@@ -1,0 +1,147 @@
+"""The package keeps to the small part of Python that it is written in."""
+
+import ast
+import builtins
+import pathlib
+import re
+import unittest
+
+PACKAGE = pathlib.Path(__file__).resolve().parent.parent / "copperboarddesk"
+FILES = sorted(PACKAGE.glob("*.py"))
+
+STATEMENTS = (
+    ast.Assign, ast.AugAssign, ast.If, ast.While, ast.For, ast.Return, ast.Break, ast.Continue, ast.Pass,
+    ast.Raise, ast.Try, ast.Expr, ast.FunctionDef, ast.ClassDef, ast.ImportFrom,
+)
+BUILT_IN = (
+    "len range enumerate zip min max sum abs sorted reversed int str bool list tuple dict set frozenset "
+    "isinstance ord repr any all divmod Exception ValueError KeyError IndexError LookupError"
+).split()
+METHODS = (
+    "append clear copy count endswith extend find get index insert items join keys pop remove replace reverse "
+    "setdefault split startswith strip update values bit_length"
+).split()
+NOWHERE = (
+    "type typing typing_extensions enum Enum IntEnum StrEnum Flag IntFlag Generic Protocol ABC ABCMeta "
+    "namedtuple NamedTuple TypedDict TYPE_CHECKING abstractmethod"
+).split()
+TOO_OTHER = (
+    ast.Lambda, ast.Set, ast.SetComp, ast.DictComp, ast.GeneratorExp, ast.NamedExpr, ast.Starred, ast.Await,
+    ast.Yield, ast.YieldFrom, ast.Div, ast.MatMult, ast.Is, ast.IsNot,
+)
+
+
+def trees():
+    return [(path.name, ast.parse(path.read_text("utf-8"))) for path in FILES]
+
+
+def defs(tree):
+    return [node for node in ast.walk(tree) if isinstance(node, ast.FunctionDef)]
+
+
+class Files(unittest.TestCase):
+    def test_nothing_else_lies_in_the_folder(self):
+        found = [path.name for path in PACKAGE.iterdir() if path.name != "__pycache__"]
+        self.assertEqual(sorted(found), [path.name for path in FILES])
+        for name in found:
+            self.assertRegex(name, r"^[a-z0-9_]+\.py$")
+
+    def test_signs_and_sizes(self):
+        for path in FILES:
+            text = path.read_text("utf-8")
+            self.assertRegex(text, r"\A[ -~\n]*\Z")
+            rows = text.split("\n")
+            self.assertLessEqual(len(rows), 400)
+            self.assertLessEqual(max(len(row) for row in rows), 120)
+
+    def test_words_that_stand_nowhere(self):
+        for path in FILES:
+            text = path.read_text("utf-8")
+            for word in NOWHERE:
+                self.assertIsNone(re.search(r"\b" + word + r"\b", text), (path.name, word))
+            for word in ("dataclass", "overload", "contextmanager"):
+                self.assertNotIn(word, text)
+
+    def test_functions_are_short(self):
+        for name, tree in trees():
+            for node in defs(tree):
+                self.assertLessEqual(node.end_lineno - node.lineno + 1, 40, (name, node.name))
+
+
+class Code(unittest.TestCase):
+    def test_statements(self):
+        for name, tree in trees():
+            for node in ast.walk(tree):
+                if isinstance(node, ast.stmt):
+                    self.assertIsInstance(node, STATEMENTS, (name, node.lineno))
+                if isinstance(node, (ast.For, ast.While)):
+                    self.assertEqual(node.orelse, [], (name, node.lineno))
+                if isinstance(node, ast.Assign):
+                    self.assertEqual(len(node.targets), 1, (name, node.lineno))
+                    self.assertNotIsInstance(node.targets[0], ast.Tuple, (name, node.lineno))
+                if isinstance(node, ast.Expr) and node is not tree.body[0]:
+                    self.assertIsInstance(node.value, ast.Call, (name, node.lineno))
+
+    def test_values(self):
+        for name, tree in trees():
+            for node in ast.walk(tree):
+                self.assertNotIsInstance(node, TOO_OTHER, (name, getattr(node, "lineno", 0)))
+                if isinstance(node, ast.Constant):
+                    self.assertIsInstance(node.value, (int, str, type(None)), (name, node.lineno))
+                if isinstance(node, ast.ListComp):
+                    self.assertEqual(len(node.generators), 1, (name, node.lineno))
+                    self.assertLessEqual(len(node.generators[0].ifs), 1, (name, node.lineno))
+
+    def test_imports_are_the_package_s_own_and_go_one_way(self):
+        drawn = {}
+        for name, tree in trees():
+            rows = [node for node in ast.walk(tree) if isinstance(node, ast.ImportFrom)]
+            for row in rows:
+                self.assertEqual(row.level, 0)
+                self.assertRegex(row.module, r"^copperboarddesk\.[a-z]+$")
+                self.assertIn(row, tree.body)
+            drawn[name] = {row.module.split(".")[1] + ".py" for row in rows}
+        self.assertEqual(drawn["__init__.py"], set())
+        while drawn:
+            free = [name for name in drawn if not drawn[name] & set(drawn)]
+            self.assertNotEqual(free, [], "files draw from one another")
+            drawn = {name: drawn[name] for name in drawn if name not in free}
+
+    def test_names(self):
+        for name, tree in trees():
+            own = {node.name for node in ast.walk(tree) if isinstance(node, (ast.FunctionDef, ast.ClassDef))}
+            own |= {alias.name for node in ast.walk(tree) if isinstance(node, ast.ImportFrom)
+                    for alias in node.names}
+            bound = {node.id for node in ast.walk(tree)
+                     if isinstance(node, ast.Name) and isinstance(node.ctx, ast.Store)}
+            bound |= {arg.arg for node in defs(tree) for arg in node.args.args}
+            self.assertEqual(bound & (set(BUILT_IN) | own | set(dir(builtins))), set(), name)
+            for node in ast.walk(tree):
+                if isinstance(node, ast.Name):
+                    self.assertIn(node.id, own | bound | set(BUILT_IN), (name, node.lineno))
+                    self.assertFalse(node.id.startswith("_"), (name, node.lineno))
+
+    def test_functions_are_plain(self):
+        for name, tree in trees():
+            for node in defs(tree):
+                self.assertEqual(node.decorator_list, [])
+                self.assertIsNone(node.args.vararg or node.args.kwarg or node.returns)
+                self.assertEqual(node.args.kwonlyargs + node.args.posonlyargs, [])
+                self.assertEqual([arg.annotation for arg in node.args.args if arg.annotation], [])
+
+    def test_methods_and_values_of_objects(self):
+        methods = set()
+        values = set()
+        called = set()
+        for name, tree in trees():
+            for node in ast.walk(tree):
+                if isinstance(node, ast.ClassDef):
+                    methods |= {part.name for part in node.body}
+                if isinstance(node, ast.Attribute) and isinstance(node.ctx, ast.Store):
+                    values.add(node.attr)
+                if isinstance(node, ast.Call) and isinstance(node.func, ast.Attribute):
+                    called.add(node.func.attr)
+        python_s_own = {word for kind in (str, int, list, dict, set, bytes, tuple) for word in dir(kind)}
+        self.assertEqual(methods & values, set())
+        self.assertEqual((methods - {"__init__"} | values) & python_s_own, set())
+        self.assertEqual(called - methods - set(METHODS), set())
