@@ -1,5 +1,6 @@
 """The board: its number of layers, its pieces by their numbers, and what touches what."""
 
+from copperboarddesk.piece import gap_square
 from copperboarddesk.piece import pieces_touch
 from copperboarddesk.refusals import MOST_PIECES
 
@@ -14,6 +15,7 @@ class Board:
         self.layers = layers
         self.pieces = {}
         self.links = {}
+        self.gaps = {}
 
     def has(self, number):
         return number in self.pieces
@@ -49,6 +51,9 @@ class Board:
         self.links.pop(number)
         for other in touched:
             self.links[other].pop(number)
+        for pair in list(self.gaps):
+            if number in pair:
+                self.gaps.pop(pair)
 
     def put(self, number, piece):
         self.pieces[number] = piece
@@ -62,3 +67,10 @@ class Board:
         self.unlink(number)
         self.pieces[number].place(points)
         self.link(number)
+
+    # The square of the distance of the skeletons of i and j, i < j, which have no point in
+    # common. It costs much and is asked again and again, so it is kept while they stay.
+    def gap(self, i, j):
+        if (i, j) not in self.gaps:
+            self.gaps[(i, j)] = gap_square(self.pieces[i], self.pieces[j])
+        return self.gaps[(i, j)]

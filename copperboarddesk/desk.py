@@ -5,14 +5,24 @@ numbers that are answered; refusals are looked for in their order, -1 first.
 """
 
 from copperboarddesk.board import Board
+from copperboarddesk.cuts import cut_pieces
+from copperboarddesk.cuts import needed_between
+from copperboarddesk.joins import levels_of_part
 from copperboarddesk.joins import members
+from copperboarddesk.joins import near_pairs
 from copperboarddesk.joins import parts
 from copperboarddesk.joins import reached_within
 from copperboarddesk.joins import shortest_chain
 from copperboarddesk.joins import steps_from
+from copperboarddesk.nets import loose_pieces
+from copperboarddesk.nets import net_counts
+from copperboarddesk.nets import nets_apart
+from copperboarddesk.nets import shorted_parts
 from copperboarddesk.piece import Piece
+from copperboarddesk.piece import pieces_touch
 from copperboarddesk.refusals import BOARD_FULL
 from copperboarddesk.refusals import GREATEST_COORDINATE
+from copperboarddesk.refusals import GREATEST_DISTANCE
 from copperboarddesk.refusals import GREATEST_NET
 from copperboarddesk.refusals import GREATEST_RADIUS
 from copperboarddesk.refusals import MOST_LAYERS
@@ -21,6 +31,7 @@ from copperboarddesk.refusals import MOST_STEPS
 from copperboarddesk.refusals import NO_SKELETON
 from copperboarddesk.refusals import NO_SUCH_PIECE
 from copperboarddesk.refusals import POINT_OUT_OF_RANGE
+from copperboarddesk.refusals import WRONG_DISTANCE
 from copperboarddesk.refusals import WRONG_LAYER_COUNT
 from copperboarddesk.refusals import WRONG_LAYERS
 from copperboarddesk.refusals import WRONG_NET
@@ -35,6 +46,23 @@ def as_list(numbers):
     return [len(numbers)] + numbers
 
 
+def flattened(rows):
+    numbers = []
+    for row in rows:
+        numbers.extend(row)
+    return numbers
+
+
+# How many rows there are, then the numbers of each.
+def as_rows(rows):
+    return [len(rows)] + flattened(rows)
+
+
+# How many heads there are, then each with the list that belongs to it.
+def as_lists(headed):
+    return as_rows([[head] + as_list(numbers) for head, numbers in headed])
+
+
 def is_net(net):
     return 0 <= net <= GREATEST_NET
 
@@ -45,14 +73,6 @@ def in_range(numbers):
 
 def points_from(numbers):
     return [(numbers[k], numbers[k + 1]) for k in range(0, len(numbers), 2)]
-
-
-def coordinates_of(points):
-    numbers = []
-    for x, y in points:
-        numbers.append(x)
-        numbers.append(y)
-    return numbers
 
 
 def answer_begin(board, given):
@@ -124,7 +144,7 @@ def answer_move(board, given):
     if not board.has(given[0]):
         return [NO_SUCH_PIECE]
     moved = [(x + given[1], y + given[2]) for x, y in board.pieces[given[0]].points]
-    if not in_range(coordinates_of(moved)):
+    if not in_range(flattened(moved)):
         return [POINT_OUT_OF_RANGE]
     board.place(given[0], moved)
     return [0]
@@ -134,7 +154,7 @@ def answer_piece(board, given):
     if not board.has(given[0]):
         return [NO_SUCH_PIECE]
     piece = board.pieces[given[0]]
-    return [piece.net, piece.first, piece.last, piece.radius] + coordinates_of(piece.points)
+    return [piece.net, piece.first, piece.last, piece.radius] + flattened(piece.points)
 
 
 def answer_touching(board, given):
@@ -173,6 +193,64 @@ def answer_reach(board, given):
     return as_list(reached_within(board, given[0], given[1]))
 
 
+def answer_shorts(board, given):
+    return as_lists(shorted_parts(board))
+
+
+def answer_opens(board, given):
+    return as_lists(nets_apart(board))
+
+
+def answer_loose(board, given):
+    return as_list(loose_pieces(board))
+
+
+def answer_cuts(board, given):
+    return as_list(cut_pieces(board))
+
+
+def answer_needed(board, given):
+    if not board.has(given[0]) or not board.has(given[1]):
+        return [NO_SUCH_PIECE]
+    return as_list(needed_between(board, given[0], given[1]))
+
+
+# A piece holds a point just if it would touch a spot of radius 0 there.
+def answer_point(board, given):
+    layer = given[0]
+    if not 1 <= layer <= board.layers:
+        return [WRONG_LAYERS]
+    if not in_range(given[1:]):
+        return [POINT_OUT_OF_RANGE]
+    spot = Piece(0, layer, layer, 0, points_from(given[1:]))
+    return as_list([number for number in board.numbers() if pieces_touch(spot, board.pieces[number])])
+
+
+def answer_levels(board, given):
+    if not board.has(given[0]):
+        return [NO_SUCH_PIECE]
+    return as_list(levels_of_part(board, given[0]))
+
+
+def answer_near(board, given):
+    if not 1 <= given[0] <= GREATEST_DISTANCE:
+        return [WRONG_DISTANCE]
+    return as_rows(near_pairs(board, given[0]))
+
+
+def answer_nets(board, given):
+    return as_rows(net_counts(board))
+
+
+def answer_clean(board, given):
+    told = len(shorted_parts(board)) + len(nets_apart(board))
+    return [1 if told == 0 else 0]
+
+
+def answer_all(board, given):
+    return as_list(board.numbers())
+
+
 # For each call its function, how many whole numbers it has, and how many rows behind them.
 CALLS = {
     0: (answer_begin, 1, 0),
@@ -187,6 +265,17 @@ CALLS = {
     9: (answer_parts, 0, 0),
     10: (answer_chain, 2, 0),
     11: (answer_reach, 2, 0),
+    12: (answer_shorts, 0, 0),
+    13: (answer_opens, 0, 0),
+    14: (answer_loose, 0, 0),
+    15: (answer_cuts, 0, 0),
+    16: (answer_needed, 2, 0),
+    17: (answer_point, 3, 0),
+    18: (answer_levels, 1, 0),
+    19: (answer_near, 1, 0),
+    20: (answer_nets, 0, 0),
+    21: (answer_clean, 0, 0),
+    22: (answer_all, 0, 0),
 }
 
 

@@ -1,4 +1,8 @@
-"""What is joined on a board: parts, shortest chains, and how far pieces are reached."""
+"""What is joined on a board: parts, their layers, shortest chains, reach, and near pairs."""
+
+from copperboarddesk.piece import boxes_near
+from copperboarddesk.piece import share_layer
+from copperboarddesk.plane import less_square
 
 
 # For each piece joined with start, how many pieces the shortest chain from start to it
@@ -23,14 +27,19 @@ def members(board, number):
     return sorted(steps_from(board, number))
 
 
-def parts(board):
-    seen = {}
-    least = []
+# For each piece the least piece of its part.
+def least_joined(board):
+    least = {}
     for number in board.numbers():
-        if number not in seen:
-            least.append(number)
-            seen.update(steps_from(board, number))
+        if number not in least:
+            for other in steps_from(board, number):
+                least[other] = number
     return least
+
+
+def parts(board):
+    least = least_joined(board)
+    return [number for number in board.numbers() if least[number] == number]
 
 
 # Steps are counted from the end, so that the least of the next pieces that still lie
@@ -50,3 +59,35 @@ def shortest_chain(board, start, end):
 def reached_within(board, start, most):
     steps = steps_from(board, start)
     return sorted([number for number in steps if steps[number] <= most])
+
+
+def levels_of_part(board, number):
+    levels = {}
+    for other in steps_from(board, number):
+        piece = board.pieces[other]
+        for layer in range(piece.first, piece.last + 1):
+            levels[layer] = True
+    return sorted(levels)
+
+
+# Of pieces that share a layer and don't touch. Boxes are asked first, as they tell of most
+# pairs that they are far apart.
+def shapes_nearer(board, i, j, clearance):
+    piece = board.pieces[i]
+    other = board.pieces[j]
+    distance = piece.radius + other.radius + clearance
+    return boxes_near(piece, other, distance) and less_square(board.gap(i, j), (distance * distance, 1))
+
+
+# The pairs of pieces that have a layer in common and aren't joined, with less than the
+# clearance between their shapes.
+def near_pairs(board, clearance):
+    least = least_joined(board)
+    numbers = board.numbers()
+    pairs = []
+    for k, i in enumerate(numbers):
+        for j in numbers[k + 1:]:
+            apart = least[i] != least[j] and share_layer(board.pieces[i], board.pieces[j])
+            if apart and shapes_nearer(board, i, j, clearance):
+                pairs.append((i, j))
+    return pairs

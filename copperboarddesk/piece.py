@@ -1,8 +1,13 @@
-"""A piece of copper, and whether two of them touch."""
+"""A piece of copper, whether two of them touch, and how far apart their skeletons are."""
 
+from copperboarddesk.plane import above_root
 from copperboarddesk.plane import box_around
 from copperboarddesk.plane import boxes_meet
+from copperboarddesk.plane import boxes_square
 from copperboarddesk.plane import grown_box
+from copperboarddesk.plane import less_square
+from copperboarddesk.plane import lesser_square
+from copperboarddesk.plane import point_square
 from copperboarddesk.plane import segments_near
 from copperboarddesk.plane import turn
 from copperboarddesk.skeleton import sides_of
@@ -50,7 +55,7 @@ def sides_near_box(sides, box, distance):
 
 
 def some_sides_near(piece, other, distance):
-    limit = distance * distance
+    limit = (distance * distance, 1)
     others = sides_near_box(other.sides, piece.box, distance)
     for side in sides_near_box(piece.sides, other.box, distance):
         for opposite in sides_near_box(others, side[2:], distance):
@@ -59,10 +64,14 @@ def some_sides_near(piece, other, distance):
     return False
 
 
+def boxes_near(piece, other, distance):
+    return boxes_meet(grown_box(piece.box, distance), other.box)
+
+
 # Skeletons whose sides have no point in common either lie wholly apart or one lies
 # wholly within the other, so one point of each is enough to tell.
 def skeletons_near(piece, other, distance):
-    if not boxes_meet(grown_box(piece.box, distance), other.box):
+    if not boxes_near(piece, other, distance):
         return False
     if encloses(piece, other.points[0]) or encloses(other, piece.points[0]):
         return True
@@ -75,3 +84,23 @@ def share_layer(piece, other):
 
 def pieces_touch(piece, other):
     return share_layer(piece, other) and skeletons_near(piece, other, piece.radius + other.radius)
+
+
+# Each side behind the square of the distance of its box from the given one.
+def nearest_first(sides, box):
+    return sorted([(boxes_square(side[2:], box), side) for side in sides])
+
+
+# The square of the least distance of two skeletons that have no point in common. The sides
+# that face each other come first, so that most of the others are soon known to lie farther
+# apart than the least found so far, by their boxes alone.
+def gap_square(piece, other):
+    least = point_square(piece.points[0], other.points[0], other.points[0])
+    opposites = [side for square, side in nearest_first(other.sides, piece.box)]
+    for square, side in nearest_first(piece.sides, other.box):
+        if not less_square(square, least):
+            break
+        for opposite in sides_near_box(opposites, side[2:], above_root(least)):
+            if less_square(boxes_square(side[2:], opposite[2:]), least):
+                least = lesser_square(side[0], side[1], opposite[0], opposite[1], least)
+    return least

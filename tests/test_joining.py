@@ -4,26 +4,8 @@ from itertools import permutations
 from random import Random
 
 from tests.helper import (
-    HUGE, DeskCase, add, ask, begin, chain, joined, last, members, move, parts, reach, remove, touching,
+    HUGE, DeskCase, add, ask, begin, chain, grid, joined, last, members, move, parts, reach, remove, row, touching,
 )
-
-
-# Spots on a line: place k touches k - 1 and k + 1 and no other.
-def row(places, r=1):
-    return [add([(2 * place, 0)], r=r) for place in places]
-
-
-# Upright bars on layer 1 cross level bars on layer 2; each link is a barrel through both.
-def grid(links, uprights, levels):
-    calls = []
-    for i in range(uprights):
-        calls.append(add([(10 * i, 0), (10 * i, 1000)], first=1, last=1))
-    for j in range(levels):
-        calls.append(add([(-5, 10 * j + 5), (2000, 10 * j + 5)], first=2, last=2))
-    for i, j in links:
-        calls.append(add([(10 * i, 10 * j + 5)], first=1, last=2))
-    return calls
-
 
 NO_PIECES = (-HUGE, -128, -1, 5, 127, 128, HUGE)
 FIVE = row((0, 1, 2, 10, 11))

@@ -25,10 +25,19 @@ NOWHERE = (
     "type typing typing_extensions enum Enum IntEnum StrEnum Flag IntFlag Generic Protocol ABC ABCMeta "
     "namedtuple NamedTuple TypedDict TYPE_CHECKING abstractmethod"
 ).split()
+NOT_USED = (
+    "register mro elements open input version_info with_traceback add_note attrgetter breakpoint builtins compile "
+    "copyright credits delattr dir eval exec exit gc getattr globals hasattr help id importlib license locals "
+    "methodcaller os quit setattr super sys type vars chr format format_map"
+).split()
 TOO_OTHER = (
     ast.Lambda, ast.Set, ast.SetComp, ast.DictComp, ast.GeneratorExp, ast.NamedExpr, ast.Starred, ast.Await,
-    ast.Yield, ast.YieldFrom, ast.Div, ast.MatMult, ast.Is, ast.IsNot,
+    ast.Yield, ast.YieldFrom, ast.Div, ast.MatMult, ast.Is, ast.IsNot, ast.Pow, ast.JoinedStr,
 )
+WALKED_AT_ONCE = "zip enumerate reversed range items keys values".split()
+WALKED_BY = "list tuple dict sorted sum any all enumerate zip min max".split()
+KEYWORDS = {"sorted": ("key", "reverse"), "min": ("key", "default"), "max": ("key", "default"), "sum": ("start",),
+            "enumerate": ("start",), "zip": ("strict",)}
 
 
 def trees():
@@ -37,6 +46,23 @@ def trees():
 
 def defs(tree):
     return [node for node in ast.walk(tree) if isinstance(node, ast.FunctionDef)]
+
+
+def calls(tree):
+    return [node for node in ast.walk(tree) if isinstance(node, ast.Call)]
+
+
+def called_name(node):
+    return node.func.id if isinstance(node.func, ast.Name) else getattr(node.func, "attr", None)
+
+
+# A plain value: what a name at a file's top may be given.
+def is_plain(node, functions):
+    if isinstance(node, ast.UnaryOp) and isinstance(node.op, ast.USub):
+        node = node.operand
+    if isinstance(node, ast.Tuple):
+        return all(is_plain(part, functions) for part in node.elts)
+    return isinstance(node, ast.Constant) or (isinstance(node, ast.Name) and node.id in functions)
 
 
 class Files(unittest.TestCase):
@@ -145,3 +171,78 @@ class Code(unittest.TestCase):
         self.assertEqual(methods & values, set())
         self.assertEqual((methods - {"__init__"} | values) & python_s_own, set())
         self.assertEqual(called - methods - set(METHODS), set())
+
+
+class TopOfAFile(unittest.TestCase):
+    def test_what_stands_there(self):
+        for name, tree in trees():
+            self.assertIsNotNone(ast.get_docstring(tree), name)
+            bound = []
+            for node in tree.body[1:]:
+                self.assertIsInstance(node, (ast.ImportFrom, ast.FunctionDef, ast.ClassDef, ast.Assign), name)
+                if isinstance(node, ast.Assign):
+                    self.check_value(node.value, bound, (name, node.lineno))
+                    bound.append(node.targets[0].id)
+                elif isinstance(node, ast.ImportFrom):
+                    bound += [alias.name for alias in node.names]
+                    self.assertEqual([alias.asname for alias in node.names], [None] * len(node.names), name)
+                else:
+                    bound.append(node.name)
+            self.assertEqual(sorted(bound), sorted(set(bound)), name)
+
+    def check_value(self, value, bound, place):
+        parts = [value]
+        if isinstance(value, ast.Dict):
+            parts = value.keys + value.values
+        if isinstance(value, ast.List):
+            parts = value.elts
+        for part in parts:
+            self.assertTrue(is_plain(part, bound), place)
+
+    def test_each_name_comes_from_the_file_that_defines_it(self):
+        made = {name: {node.name for node in tree.body if isinstance(node, (ast.FunctionDef, ast.ClassDef))}
+                | {node.targets[0].id for node in tree.body if isinstance(node, ast.Assign)} for name, tree in trees()}
+        for name, tree in trees():
+            for row in [node for node in tree.body if isinstance(node, ast.ImportFrom)]:
+                for alias in row.names:
+                    self.assertIn(alias.name, made[row.module.split(".")[1] + ".py"], name)
+                    uses = [node for node in ast.walk(tree) if isinstance(node, ast.Name) and node.id == alias.name]
+                    self.assertNotEqual(uses, [], (name, alias.name))
+
+
+class Calls(unittest.TestCase):
+    def test_names_that_are_not_used(self):
+        for name, tree in trees():
+            for node in ast.walk(tree):
+                for word in (getattr(node, "id", None), getattr(node, "attr", None), getattr(node, "name", None)):
+                    self.assertNotIn(word, NOT_USED, (name, getattr(node, "lineno", 0)))
+
+    def test_sets_are_not_used(self):
+        for name, tree in trees():
+            for node in calls(tree):
+                self.assertNotIn(called_name(node), ("set", "frozenset"), (name, node.lineno))
+
+    def test_what_is_walked_is_walked_on_the_spot(self):
+        for name, tree in trees():
+            walked = [node.iter for node in ast.walk(tree) if isinstance(node, (ast.For, ast.comprehension))]
+            walked += [node.args[0] for node in calls(tree) if called_name(node) in WALKED_BY and node.args]
+            for node in calls(tree):
+                if called_name(node) in WALKED_AT_ONCE:
+                    self.assertIn(node, walked, (name, node.lineno))
+
+    def test_keywords(self):
+        for name, tree in trees():
+            for node in calls(tree):
+                for keyword in node.keywords:
+                    self.assertIn(keyword.arg, KEYWORDS.get(called_name(node), ()), (name, node.lineno))
+
+    def test_what_a_loop_walks_is_not_changed_in_it(self):
+        changes = "append clear extend insert pop remove reverse setdefault update".split()
+        for name, tree in trees():
+            for loop in [node for node in ast.walk(tree) if isinstance(node, ast.For)]:
+                walked = ast.dump(loop.iter)
+                for node in [node for row in loop.body for node in ast.walk(row)]:
+                    if isinstance(node, ast.Call) and called_name(node) in changes:
+                        self.assertNotEqual(ast.dump(node.func.value), walked, (name, node.lineno))
+                    if isinstance(node, ast.Subscript) and isinstance(node.ctx, ast.Store):
+                        self.assertNotEqual(ast.dump(node.value).replace("Store", "Load"), walked, (name, node.lineno))
